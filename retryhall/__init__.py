@@ -1,0 +1,1 @@
+"""Retryhall: deeds that are whole or nothing, woven in any way."""
