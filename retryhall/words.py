@@ -3,6 +3,7 @@
 # This is 2 ** 64, written out since the top of a module holds plain values alone.
 WIDE = 18446744073709551616
 
+WORDS = ("plus", "minus", "times", "less", "same")
 FIGURES = "0123456789"
 SLOTS = "abcdefgh"
 LETTERS = "abcdefghijklmnopqrstuvwxyz"
@@ -30,9 +31,17 @@ def number_of(text):
     return number if number < WIDE else None
 
 
+def is_word(text):
+    return text in WORDS
+
+
 def is_slot(text):
     # A longer text, or the one without signs, could also be found within SLOTS.
     return len(text) == 1 and text in SLOTS
+
+
+def slot_index(slot):
+    return SLOTS.find(slot)
 
 
 def is_name(text):

@@ -33,6 +33,53 @@ NODES_OUT = (
 )
 
 
+VALUES_OUT = set(
+    "items keys values pop update append clear extend insert remove reverse setdefault sort args encode format".split()
+)
+WALKED_BY_FUNCTIONS = {"list", "tuple", "dict", "sorted", "sum", "any", "all", "enumerate", "zip", "min", "max"}
+
+
+def top_names(tree):
+    # The names that a file binds at its top: imports, functions, classes, plain values.
+    names = []
+    for node in tree.body:
+        if isinstance(node, ast.ImportFrom):
+            names += [name.asname or name.name for name in node.names]
+        elif isinstance(node, (ast.FunctionDef, ast.ClassDef)):
+            names.append(node.name)
+        elif isinstance(node, ast.Assign):
+            names += [target.id for target in node.targets]
+    return names
+
+
+def class_and_import_names(tree):
+    kept = [node for node in tree.body if isinstance(node, (ast.ImportFrom, ast.ClassDef))]
+    return set(top_names(ast.Module(body=kept, type_ignores=[])))
+
+
+def drawn_from(tree):
+    return {node.module.split(".")[1] for node in tree.body if isinstance(node, ast.ImportFrom)}
+
+
+def walked_places(tree):
+    # The nodes that stand where something is walked on the spot.
+    places = set()
+    for node in ast.walk(tree):
+        if isinstance(node, (ast.For, ast.comprehension)):
+            places.add(node.iter)
+        elif isinstance(node, ast.Call) and isinstance(node.func, ast.Name) and node.func.id in WALKED_BY_FUNCTIONS:
+            places.update(node.args)
+    return places
+
+
+def is_walk(node):
+    if not isinstance(node, ast.Call):
+        return False
+    if isinstance(node.func, ast.Name):
+        return node.func.id in ("zip", "enumerate", "reversed", "range")
+    return isinstance(node.func, ast.Attribute) and node.func.attr in ("items", "keys", "values")
+
+
 def own_names(tree):
     # Methods and values of objects by name, for the rule that no name is both.
     methods, values = set(), set()
@@ -81,6 +128,86 @@ class LanguageTest(unittest.TestCase):
                 self.assertRegex(node.module, r"^retryhall\.[a-z]", place)
                 self.assertTrue((PACKAGE / (node.module.split(".")[1] + ".py")).is_file(), place)
                 self.assertNotIn("*", [name.name for name in node.names], place)
+
+    def test_what_is_imported_is_defined_there(self):
+        for tree in self.trees.values():
+            for node in tree.body:
+                if isinstance(node, ast.ImportFrom):
+                    drawn = self.trees[PACKAGE / (node.module.split(".")[1] + ".py")]
+                    own = [part for part in drawn.body if not isinstance(part, ast.ImportFrom)]
+                    names = top_names(ast.Module(body=own, type_ignores=[]))
+                    for name in node.names:
+                        self.assertIn(name.name, names, node.module)
+
+    def test_no_two_files_draw_from_one_another(self):
+        drawn = {path.stem: drawn_from(tree) for path, tree in self.trees.items()}
+        while drawn:
+            ready = [name for name in drawn if not drawn[name] & set(drawn)]
+            self.assertNotEqual(ready, [], drawn)
+            for name in ready:
+                drawn.pop(name)
+
+    def test_the_top_of_a_module(self):
+        for path, tree in self.trees.items():
+            for place, node in enumerate(tree.body):
+                docstring = place == 0 and isinstance(node, ast.Expr) and isinstance(node.value, ast.Constant)
+                kinds = (ast.ImportFrom, ast.FunctionDef, ast.ClassDef, ast.Assign)
+                self.assertTrue(docstring or isinstance(node, kinds), (path, node.lineno))
+                if isinstance(node, ast.Assign):
+                    for part in ast.walk(node.value):
+                        plain = (ast.Constant, ast.List, ast.Tuple, ast.Dict, ast.Name, ast.Load)
+                        self.assertIsInstance(part, plain, (path, node.lineno))
+            names = top_names(tree)
+            self.assertEqual(len(names), len(set(names)), path)
+
+    def test_locals_are_not_called_like_classes_or_imports(self):
+        for path, tree in self.trees.items():
+            taken = class_and_import_names(tree)
+            for node in ast.walk(tree):
+                if isinstance(node, ast.arg):
+                    self.assertNotIn(node.arg, taken, (path, node.lineno))
+                if isinstance(node, ast.Name) and isinstance(node.ctx, ast.Store):
+                    self.assertNotIn(node.id, taken, (path, node.lineno))
+
+    def test_classes_stand_where_they_may(self):
+        classes = {node.name for place, node in self.nodes() if isinstance(node, ast.ClassDef)}
+        for path, tree in self.trees.items():
+            good = set()
+            for node in ast.walk(tree):
+                if isinstance(node, ast.Call):
+                    good.add(node.func)
+                    if isinstance(node.func, ast.Name) and node.func.id == "isinstance":
+                        good.add(node.args[1])
+                        good.update(getattr(node.args[1], "elts", []))
+                if isinstance(node, ast.ClassDef):
+                    good.update(node.bases)
+                if isinstance(node, ast.ExceptHandler):
+                    good.add(node.type)
+                    good.update(getattr(node.type, "elts", []))
+            for node in ast.walk(tree):
+                if isinstance(node, ast.Name) and node.id in classes:
+                    self.assertIn(node, good, (path, node.lineno))
+
+    def test_is_stands_beside_none_true_false_alone(self):
+        for place, node in self.nodes():
+            if isinstance(node, ast.Compare):
+                for operator, other in zip(node.ops, node.comparators):
+                    if isinstance(operator, (ast.Is, ast.IsNot)):
+                        self.assertIsInstance(other, ast.Constant, place)
+                        self.assertIn(other.value, (None, True, False), place)
+
+    def test_walked_at_once(self):
+        for path, tree in self.trees.items():
+            places = walked_places(tree)
+            for node in ast.walk(tree):
+                if is_walk(node):
+                    self.assertIn(node, places, (path, node.lineno))
+
+    def test_no_sets_are_kept(self):
+        for place, node in self.nodes():
+            self.assertNotIsInstance(node, ast.Set, place)
+            if isinstance(node, ast.Name):
+                self.assertNotIn(node.id, ("set", "frozenset"), place)
 
     def test_statements_and_expressions(self):
         for place, node in self.nodes():
@@ -140,6 +267,7 @@ class LanguageTest(unittest.TestCase):
             methods |= more_methods
             values |= more_values
         self.assertEqual(methods & values, set())
+        self.assertEqual(values & VALUES_OUT, set())
         for place, node in self.nodes():
             if isinstance(node, ast.Call) and isinstance(node.func, ast.Attribute):
                 self.assertIn(node.func.attr, METHODS | methods, place)
