@@ -1,8 +1,7 @@
 """A deed done alone: on boxes that no other hand touches, from part to part."""
 
-from retryhall.logs import Log
+from retryhall.doer import Doer
 from retryhall.parts import Either, If, Let, Put, Reckon, Take, Throw, Try, Wait
-from retryhall.words import reckon, slot_index
 
 DONE = ("done",)
 WAITS = ("waits",)
@@ -16,20 +15,10 @@ def alone(deed, boxes, slots):
     return (end, doing.log.saw(), [], list(slots))
 
 
-class Doing:
+class Doing(Doer):
     def __init__(self, boxes, slots):
+        Doer.__init__(self, slots, len(boxes))
         self.found = list(boxes)
-        self.held = list(slots)
-        self.log = Log()
-
-    def held_in(self, slot):
-        return self.held[slot_index(slot)]
-
-    def hold(self, slot, number):
-        self.held[slot_index(slot)] = number
-
-    def box_at(self, place):
-        return self.held_in(place) % len(self.found)
 
     # What is done tells its end: a wait or a fault is handed outwards, from part to part, until one takes it.
     def list_end(self, parts):
@@ -87,16 +76,14 @@ class Doing:
         if isinstance(part, Let):
             self.hold(part.slot, part.number)
         if isinstance(part, Reckon):
-            self.hold(part.slot, reckon(part.word, self.held_in(part.one), self.held_in(part.other)))
+            self.do_reckon(part.word, part.slot, part.one, part.other)
         if isinstance(part, Take):
             self.take_done(part)
         if isinstance(part, Put):
-            self.log.write(self.box_at(part.place), self.held_in(part.slot))
+            self.do_put(part.place, part.slot)
 
     def take_done(self, part):
-        box = self.box_at(part.place)
-        number = self.log.own(box)
-        if number is None:
-            number = self.found[box]
-            self.log.see(box, number)
-        self.hold(part.slot, number)
+        if self.sees_at(part.place):
+            self.take_seen(part.slot, part.place, self.found)
+        else:
+            self.take_own(part.slot, part.place)

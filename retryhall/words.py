@@ -21,6 +21,15 @@ def reckon(word, one, other):
     return 1 if one == other else 0
 
 
+# True and False are ints to Python, yet no whole numbers.
+def is_whole(value):
+    return isinstance(value, int) and not isinstance(value, bool)
+
+
+def is_number(value):
+    return is_whole(value) and 0 <= value < WIDE
+
+
 def number_of(text):
     # The length comes first: Python itself refuses to read a text of very many figures.
     if not 1 <= len(text) <= 20 or not is_made_of(text, FIGURES):

@@ -179,6 +179,9 @@ class LanguageTest(unittest.TestCase):
                     if isinstance(node.func, ast.Name) and node.func.id == "isinstance":
                         good.add(node.args[1])
                         good.update(getattr(node.args[1], "elts", []))
+                    # A base's own beginning is called by the base's name.
+                    if isinstance(node.func, ast.Attribute) and node.func.attr == "__init__":
+                        good.add(node.func.value)
                 if isinstance(node, ast.ClassDef):
                     good.update(node.bases)
                 if isinstance(node, ast.ExceptHandler):

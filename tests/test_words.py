@@ -2,7 +2,7 @@
 
 import unittest
 
-from retryhall.words import WIDE, is_name, is_slot, number_of, reckon
+from retryhall.words import WIDE, is_name, is_number, is_slot, is_whole, number_of, reckon
 
 SIGNS = [chr(code) for code in range(ord(" "), ord("~") + 1)]
 WORDS_OF_DEEDS = (
@@ -65,6 +65,18 @@ class ReckonTest(unittest.TestCase):
             for one in near:
                 for other in near:
                     self.assertTrue(0 <= reckon(word, one, other) < WIDE, (word, one, other))
+
+
+class WholeNumbersTest(unittest.TestCase):
+    def test_whole_numbers_and_numbers(self):
+        for value in (0, 1, 17, WIDE - 1):
+            self.assertEqual((is_whole(value), is_number(value)), (True, True), value)
+        for value in (-1, -WIDE, WIDE, 10 ** 300):
+            self.assertEqual((is_whole(value), is_number(value)), (True, False), value)
+
+    def test_other_things(self):
+        for value in (True, False, None, "", "1", 1.0, float("nan"), (), (1,), [], [1], {}, object(), int, 1j):
+            self.assertEqual((is_whole(value), is_number(value)), (False, False), value)
 
 
 class NumberOfTest(unittest.TestCase):
